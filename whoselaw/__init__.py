@@ -1,0 +1,1 @@
+"""Whoselaw: by whose custom a court decides."""
