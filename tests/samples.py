@@ -1,5 +1,12 @@
 """What several tests need: things of every kind, and ways to change what is nested."""
 
+EMPTY = ((), (), (), (), ())
+YES = ("say", 1)
+NO = ("say", 0)
+WORDS = (
+    "in", "with", "open", "round", "none", "self", "alone", "taken", "court", "named", "same", "nobody", "say", "ask",
+)
+
 
 def nest(depth, wrap, inmost=0):
     thing = inmost
@@ -59,3 +66,58 @@ def is_plain(thing):
     if type(thing) is tuple:
         return all(is_plain(part) for part in thing)
     return thing is None or type(thing) in (int, str, bool)
+
+
+def land(rules=(), customs=()):
+    """A land with these rules and customs and nothing else."""
+    return (tuple(rules), tuple(customs), (), (), ())
+
+
+def say(answer):
+    return ("say", answer)
+
+
+def ask(kind, yes=YES, no=NO, whose=None, mode=0):
+    return ("ask", kind, whose, mode, yes, no)
+
+
+def asking_most():
+    """Customs with three asks of each kind, each of the kind below: forty trees for a question of kind 3."""
+    customs = [(0, 0, say(1))]
+    for kind in (1, 2, 3):
+        deep = say(kind)
+        for _ in range(3):
+            deep = ask(kind - 1, deep, say(0))
+        customs.append((kind, 0, deep))
+    return customs
+
+
+def at_once(who, role, place, day=0):
+    """A fact by which this role of this one is in a land."""
+    return (who, role, day, ("in", place))
+
+
+def changes(thing):
+    """The nested tuples with any one part put otherwise, each of them another thing than they are."""
+    shown = repr(thing)
+    for path in paths(thing):
+        for new in other_parts(part_at(thing, path)):
+            changed = put_at(thing, path, new)
+            if repr(changed) != shown:
+                yield changed
+
+
+def other_parts(part):
+    """What may stand in this part's stead."""
+    others = [None, True, False, "", "x", "in", 10 ** 59, (), [], {}, (part,), [part]]
+    if type(part) is int:
+        others += [part + 1, part - 1, -part, str(part), bool(part)]
+    if isinstance(part, str):
+        others += WORDS + (part + " ", part.upper(), part[:-1])
+    if isinstance(part, tuple):
+        others += [list(part), dict(enumerate(part)), part[::-1], part + part]
+        others += [part + (more,) for more in (None, 0, "in", ())]
+        others += [(more,) + part for more in (None, 0, "in", ())]
+    if isinstance(part, tuple) and part:
+        others += [part[1:], part[:-1], part[:1] + part, part + part[-1:], part[1:] + part[:1]]
+    return others

@@ -1,6 +1,7 @@
 """The form of the package: what can be seen of LANGUAGE.md and of the interface without running it."""
 
 import ast
+import builtins
 import pathlib
 import re
 import unittest
@@ -31,11 +32,40 @@ INTERFACE = {
         "trail_of": ["book", "pair", "day"],
         "trail_holds": ["book", "pair", "day", "thing"],
     },
+    "chains.py": {
+        "step_of": ["lands", "book", "land", "question"],
+        "chain_of": ["lands", "book", "court", "question"],
+        "decided": ["lands", "book", "court", "question"],
+    },
+    "chainpaper.py": {
+        "chain_holds": ["lands", "book", "court", "question", "thing"],
+        "seat_and_source": ["lands", "question", "chain"],
+    },
+    "trees.py": {"answer_of": ["lands", "book", "court", "question"]},
+    "treepaper.py": {"tree_holds": ["lands", "book", "court", "question", "answer", "thing"]},
+    "naming.py": {"named": ["lands", "question", "court", "tree"]},
 }
 
 BARRED_WORDS = re.compile(
     r"\b(type|typing|typing_extensions|enum|Enum|IntEnum|StrEnum|Flag|IntFlag|Generic|Protocol|ABC|ABCMeta|"
     r"namedtuple|NamedTuple|TypedDict|TYPE_CHECKING|abstractmethod)\b|dataclass|overload|contextmanager"
+)
+
+ALLOWED_BUILTINS = set(
+    "len range enumerate zip min max sum abs sorted reversed int str bool bytes list tuple dict set frozenset "
+    "isinstance ord repr any all divmod iter next Exception ValueError TypeError KeyError IndexError LookupError "
+    "ZeroDivisionError ArithmeticError OverflowError RuntimeError NotImplementedError AttributeError StopIteration "
+    "NotImplemented".split()
+)
+ALLOWED_METHODS = set(
+    "add discard append clear copy count endswith extend find get index insert isalnum isalpha isdigit islower "
+    "isspace isupper items join keys ljust lower lstrip partition pop remove replace reverse rfind rjust rpartition "
+    "rsplit rstrip setdefault split splitlines startswith strip update upper values zfill bit_length".split()
+)
+BARRED_NAMES = set(
+    "register mro elements open input law version_info with_traceback add_note attrgetter breakpoint builtins compile "
+    "copyright credits delattr dir eval exec exit gc getattr globals hasattr help id importlib license locals "
+    "methodcaller os quit setattr super type vars sys".split()
 )
 
 
@@ -100,6 +130,76 @@ class Form(unittest.TestCase):
                 self.assertNotIsInstance(node, barred, path)
                 if isinstance(node, ast.Constant):
                     self.assertNotIsInstance(node.value, (float, complex), path)
+
+    def test_no_two_files_import_from_each_other(self):
+        sources = {path.stem: imported_files(ast.parse(path.read_text())) for path in files()}
+        left = dict(sources)
+        while left:
+            ready = [name for name in left if not sources[name] & set(left)]
+            self.assertTrue(ready, sorted(left))
+            for name in ready:
+                del left[name]
+
+    def test_module_level(self):
+        allowed = (ast.ImportFrom, ast.FunctionDef, ast.ClassDef, ast.Assign)
+        for path in files():
+            body = ast.parse(path.read_text()).body
+            self.assertIsInstance(body[0].value.value, str, path)
+            for node in body[1:]:
+                self.assertIsInstance(node, allowed, path)
+            names = [name for node in body[1:] for name in bound_names(node)]
+            self.assertEqual(sorted(names), sorted(set(names)), path)
+
+    def test_names(self):
+        for path in files():
+            tree = ast.parse(path.read_text())
+            imports = {alias.name for node in tree.body if isinstance(node, ast.ImportFrom) for alias in node.names}
+            for name in stored_names(tree):
+                self.assertRegex(name, r"\A[A-Za-z][A-Za-z0-9_]*\Z", path)
+                self.assertNotIn(name, dir(builtins), path)
+                self.assertNotIn(name, BARRED_NAMES, path)
+                self.assertNotIn(name, imports, path)
+
+    def test_builtins_and_methods(self):
+        for path in files():
+            tree = ast.parse(path.read_text())
+            for node in ast.walk(tree):
+                if isinstance(node, ast.Name) and node.id in dir(builtins):
+                    self.assertIn(node.id, ALLOWED_BUILTINS, path)
+                if isinstance(node, ast.Attribute):
+                    self.assertIn(node.attr, ALLOWED_METHODS, path)
+
+    def test_is_stands_with_none_true_and_false_only(self):
+        for path in files():
+            for node in ast.walk(ast.parse(path.read_text())):
+                if isinstance(node, ast.Compare) and isinstance(node.ops[0], (ast.Is, ast.IsNot)):
+                    self.assertIn(ast.unparse(node.comparators[0]), ("None", "True", "False"), path)
+
+
+def imported_files(tree):
+    return {node.module.split(".")[1] for node in tree.body if isinstance(node, ast.ImportFrom)}
+
+
+def bound_names(node):
+    """What a statement at module level binds."""
+    if isinstance(node, ast.ImportFrom):
+        return [alias.asname or alias.name for alias in node.names]
+    if isinstance(node, ast.Assign):
+        return [target.id for target in node.targets]
+    return [node.name]
+
+
+def stored_names(tree):
+    """Every name that the file gives to something of its own."""
+    names = []
+    for node in ast.walk(tree):
+        if isinstance(node, (ast.FunctionDef, ast.ClassDef)):
+            names.append(node.name)
+        if isinstance(node, ast.arg):
+            names.append(node.arg)
+        if isinstance(node, ast.Name) and isinstance(node.ctx, ast.Store):
+            names.append(node.id)
+    return names
 
 
 def defined_names(tree):

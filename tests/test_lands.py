@@ -1,18 +1,11 @@
 import copy
 import unittest
 
-from samples import is_plain, part_at, paths, put_at, things_of_every_kind
+from samples import EMPTY, NO, YES, ask, is_plain, part_at, paths, put_at, things_of_every_kind
 from whoselaw.lands import are_lands, custom_at, heirs_at, reach_at, rule_at, saying_at, take_at
 
 LAST_DAY = 10 ** 9
-EMPTY = ((), (), (), (), ())
-YES = ("say", 1)
-NO = ("say", 0)
 RULES, CUSTOMS, HEIRS, TAKES, REACHES = range(5)
-
-
-def ask(kind, yes=YES, no=NO, whose=None, mode=0):
-    return ("ask", kind, whose, mode, yes, no)
 
 
 def lands_with(part, rows, many=2, land=0):

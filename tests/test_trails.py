@@ -2,6 +2,7 @@ import copy
 import random
 import unittest
 
+from plain import plain_trail
 from samples import is_plain, part_at, paths, put_at, things_of_every_kind
 from whoselaw.facts import is_book
 from whoselaw.trails import trail_holds, trail_of
@@ -23,25 +24,6 @@ WAY = (
 TRAIL = ("in", 1, ((4, 1, 5, ("with", 2)), (2, 1, 3, ("with", 7)), (7, 1, 10, ("in", 1))))
 OPEN = ("open", 0, ((1, 0, 0, ("with", 0)),))
 ROUND = ("round", 1, ((0, 0, 0, ("with", 1)), (1, 0, 1, ("with", 2)), (2, 0, 1, ("with", 1))))
-
-
-def plain_trail(book, pair, day):
-    """The trail by the document's words, told once more without the program."""
-    who, role = pair
-    through = [who]
-    facts = ()
-    while True:
-        elder = [fact for fact in book if (fact[0], fact[1]) == (through[-1], role) and fact[2] <= day]
-        if not elder:
-            return ("open", through[-1], facts)
-        fact = max(elder, key=lambda each: each[2])
-        facts += (fact,)
-        word, number = fact[3]
-        if word == "in":
-            return ("in", number, facts)
-        if number in through:
-            return ("round", number, facts)
-        through.append(number)
 
 
 class Trails(unittest.TestCase):

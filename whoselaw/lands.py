@@ -10,6 +10,8 @@ LAST_DAY = 10 ** 9
 LAST_ROLE = 3
 # Rules, calls and reaches go by these roles only; role 3 says who holds a thing.
 LAST_RULE_ROLE = 2
+# The words of the ways, each at the place of its number.
+WAYS = ("alone", "taken", "court")
 LAST_WAY = 2
 LAST_ANSWER = 9
 LAST_WEIGHT = 9
