@@ -5,6 +5,8 @@ YES = ("say", 1)
 NO = ("say", 0)
 WORDS = (
     "in", "with", "open", "round", "none", "self", "alone", "taken", "court", "named", "same", "nobody", "say", "ask",
+    "land", "ones", "one", "no", "split", "told", "agree", "part",
+    "later", "strange", "settled", "no party", "binds",
 )
 
 
@@ -68,9 +70,9 @@ def is_plain(thing):
     return thing is None or type(thing) in (int, str, bool)
 
 
-def land(rules=(), customs=()):
-    """A land with these rules and customs and nothing else."""
-    return (tuple(rules), tuple(customs), (), (), ())
+def land(rules=(), customs=(), heirs=(), takes=(), reaches=()):
+    """A land with these rows and no others."""
+    return (tuple(rules), tuple(customs), tuple(heirs), tuple(takes), tuple(reaches))
 
 
 def say(answer):
@@ -95,6 +97,11 @@ def asking_most():
 def at_once(who, role, place, day=0):
     """A fact by which this role of this one is in a land."""
     return (who, role, day, ("in", place))
+
+
+def beside(who, role, other, day=0):
+    """A fact by which this role of this one is with another one."""
+    return (who, role, day, ("with", other))
 
 
 def changes(thing):

@@ -44,6 +44,16 @@ INTERFACE = {
     "trees.py": {"answer_of": ["lands", "book", "court", "question"]},
     "treepaper.py": {"tree_holds": ["lands", "book", "court", "question", "answer", "thing"]},
     "naming.py": {"named": ["lands", "question", "court", "tree"]},
+    "dealing.py": {"dealt": ["lands", "book", "court", "kind", "thing", "day"]},
+    "dealpaper.py": {"dealing_holds": ["lands", "book", "court", "kind", "one", "day", "dealing", "paper"]},
+    "estates.py": {
+        "left_by": ["lands", "book", "court", "kind", "who", "day"],
+        "totals": ["left", "worths"],
+    },
+    "rolls.py": {
+        "is_roll": ["lands", "thing"],
+        "takes_over": ["lands", "land", "judgment"],
+    },
 }
 
 BARRED_WORDS = re.compile(

@@ -4,6 +4,8 @@ import random
 
 LAST_WORLD_DAY = 4
 ONES = 5
+# How many ones the books of full worlds know of: the last three are held by others more often.
+FOLK = 8
 
 
 def thrown_worlds(many, seed):
@@ -77,3 +79,81 @@ def shuffled(many, seed):
     order = list(range(many))
     random.Random(seed).shuffle(order)
     return order
+
+
+def full_worlds(many, seed):
+    """Lands with heirs, takes and reaches too, and books in which things are held and ones have kin."""
+    dice = random.Random(seed)
+    return [full_world(dice) for _ in range(many)]
+
+
+def full_world(dice):
+    many = dice.randrange(1, 6)
+    lands = tuple(full_land(dice, number, many) for number in range(many))
+    return lands, full_book(dice, many)
+
+
+def full_land(dice, number, many):
+    rules, customs = thrown_land(dice)[:2]
+    heirs = {(thrown_day(dice),): (thrown_ranks(dice),) for _ in range(dice.choice((0, 1, 1, 2, 3)))}
+    takes = {}
+    reaches = {}
+    others = [other for other in range(many) if other != number]
+    for _ in range(dice.choice((0, 4, 12)) if others else 0):
+        takes[(dice.choice(others), thrown_day(dice))] = (dice.choice((0, 1, 1)),)
+    for _ in range(dice.choice((0, 6, 12))):
+        reaches[(dice.randrange(4), thrown_day(dice))] = (dice.randrange(3),)
+    return (rules, customs, rows(heirs), rows(takes), rows(reaches))
+
+
+def thrown_ranks(dice):
+    return tuple(
+        tuple(thrown_call(dice) for _ in range(dice.randrange(1, 4))) for _ in range(dice.randrange(1, 4))
+    )
+
+
+def thrown_call(dice):
+    kind = dice.choice((None, 0, 1, 2, 3))
+    mode = 0 if kind is None else dice.randrange(2)
+    return (dice.randrange(3), dice.randrange(1, 10), kind, mode)
+
+
+def full_book(dice, many):
+    facts = {}
+    for _ in range(dice.choice((20, 60, 60))):
+        who = dice.randrange(FOLK)
+        role = 3 if who > ONES and dice.randrange(3) else dice.randrange(4)
+        # Few are held by or kin of many, so that there is something to deal out and somebody to deal it to.
+        other = dice.choice([one for one in (0, 0, 0, 1, 2, 3, 6) if one != who])
+        at = ("in", dice.randrange(many)) if dice.randrange(3) == 0 else ("with", other)
+        facts[(who, role, thrown_day(dice))] = (at,)
+    return rows(facts)
+
+
+def thrown_roll(dice, many):
+    """Judgments on few things between few ones, so that there is each sort of verdict."""
+    judgments = {}
+    for _ in range(dice.choice((0, 5, 30))):
+        thing, winner, loser = dice.sample((0, 1, 2, 3, 6, 7), 3)
+        judgments[(thrown_day(dice), dice.randrange(many), thing)] = (winner, loser)
+    return rows(judgments)
+
+
+def thrown_opens(dice, many, most=64):
+    """Opens of at most so many fillings."""
+    found = {}
+    for _ in range(dice.randrange(6)):
+        who = dice.randrange(ONES)
+        choices = [("no",)] + [("in", number) for number in range(many)]
+        choices += [("with", one) for one in range(ONES + 1) if one != who]
+        options = tuple(sorted(dice.sample(choices, dice.randrange(1, min(6, len(choices)) + 1))))
+        key = (who, dice.randrange(4))
+        if key not in found and len(options) <= most:
+            found[key] = (options,)
+            most //= len(options)
+    return rows(found)
+
+
+def thrown_courts(dice, many):
+    """Some of the lands, in any order."""
+    return tuple(dice.sample(range(many), dice.randrange(1, many + 1)))

@@ -5,6 +5,8 @@ from whoselaw.shapes import is_number, is_tuple, rises
 
 LAST_ONE = 99
 MOST_FACTS = 60
+# The role by which a thing is with the one who holds it.
+HOLDING = 3
 
 
 def is_book(lands, thing):
@@ -54,3 +56,16 @@ def stands_with(book, pair, one, day):
     """Whether the pair stands with this one on the day."""
     fact = stands(book, pair, day)
     return fact is not None and fact[3] == ("with", one)
+
+
+def held_by(book, thing, day):
+    """The one who holds the thing on the day; None, where nobody does."""
+    fact = stands(book, (thing, HOLDING), day)
+    if fact is None or fact[3][0] == "in":
+        return None
+    return fact[3][1]
+
+
+def holdings(book, who, day):
+    """The things that this one holds on the day, rising."""
+    return stood_with(book, HOLDING, who, day)
