@@ -165,8 +165,10 @@ class OtherPapers(Checked):
                 if len(path) == 3 and path[0] == 1:
                     rows = part_at(paper, path)
                     for place in range(len(rows)):
-                        self.bad(call, dealing, put_at(paper, path, rows[:place] + rows[place + 1:]))
-                        self.bad(call, dealing, put_at(paper, path, rows[:place] + rows[place:place + 1] + rows[place:]))
+                        fewer = rows[:place] + rows[place + 1:]
+                        self.bad(call, dealing, put_at(paper, path, fewer))
+                        twice = rows[:place + 1] + rows[place:]
+                        self.bad(call, dealing, put_at(paper, path, twice))
                     for one in (0, 1, 2, 3, 4, 6, 99):
                         for place in range(len(rows) + 1):
                             more = rows[:place] + ((one, None, None),) + rows[place:]

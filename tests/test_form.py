@@ -54,6 +54,26 @@ INTERFACE = {
         "is_roll": ["lands", "thing"],
         "takes_over": ["lands", "land", "judgment"],
     },
+    "verdicts.py": {
+        "verdicts": ["lands", "book", "roll", "land", "one", "day"],
+        "verdicts_hold": ["lands", "book", "roll", "land", "one", "day", "thing"],
+        "holder": ["lands", "book", "roll", "land", "one", "day"],
+        "parted": ["lands", "book", "roll", "one", "day"],
+    },
+    "courts.py": {
+        "may_ask": ["lands", "book", "question"],
+        "answers": ["lands", "book", "question"],
+        "reached": ["lands", "book", "kind", "who", "day"],
+    },
+    "opens.py": {
+        "is_opens": ["lands", "thing"],
+        "filled": ["book", "opens", "filling", "day"],
+    },
+    "viewpaper.py": {"view_holds": ["lands", "book", "question", "courts", "opens", "known", "thing"]},
+    "agreeing.py": {
+        "agreeing": ["lands", "book", "question", "courts", "opens"],
+        "agreeing_holds": ["lands", "book", "question", "courts", "opens", "thing"],
+    },
 }
 
 BARRED_WORDS = re.compile(

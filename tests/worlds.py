@@ -134,7 +134,8 @@ def thrown_roll(dice, many):
     """Judgments on few things between few ones, so that there is each sort of verdict."""
     judgments = {}
     for _ in range(dice.choice((0, 5, 30))):
-        thing, winner, loser = dice.sample((0, 1, 2, 3, 6, 7), 3)
+        thing = dice.choice((6, 6, 7, 7, 1))
+        winner, loser = dice.sample([one for one in (0, 1, 2) if one != thing], 2)
         judgments[(thrown_day(dice), dice.randrange(many), thing)] = (winner, loser)
     return rows(judgments)
 

@@ -39,12 +39,20 @@ def is_place(lands, who, thing):
 
 
 def stands(book, pair, day):
-    # The book rises, so the last fact that is let by has the greatest day.
-    found = None
-    for fact in book:
-        if fact[:2] == pair and fact[2] <= day:
-            found = fact
-    return found
+    # The book rises, so the place behind the last fact that isn't later can be sought by halves:
+    # trails and trees look here so often that going through the whole book each time is slow.
+    latest = pair + (day,)
+    low = 0
+    high = len(book)
+    while low < high:
+        middle = (low + high) // 2
+        if book[middle][:3] <= latest:
+            low = middle + 1
+        else:
+            high = middle
+    if low > 0 and book[low - 1][:2] == pair:
+        return book[low - 1]
+    return None
 
 
 def stood_with(book, role, one, day):
