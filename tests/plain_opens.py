@@ -76,6 +76,19 @@ def all_views(lands, book, question, courts, opens, known=()):
     return found
 
 
+def thrown_view(dice, lands, book, question, courts, opens, known=()):
+    """Some view that holds where these are known and the courts agree whatever the others are."""
+    leaf = plain_leaf(lands, book, question, courts, opens, known)
+    free = [number for number in range(len(opens)) if number not in dict(known)]
+    if not free or leaf is not None and dice.randrange(3):
+        return leaf
+    number = dice.choice(free)
+    return ("split", number, tuple(
+        thrown_view(dice, lands, book, question, courts, opens, more_known(known, number, option))
+        for option in opens[number][2]
+    ))
+
+
 def all_partings(lands, book, question, courts, opens):
     """Every paper that says of a filling and two courts that these part."""
     found = []

@@ -5,7 +5,7 @@ YES = ("say", 1)
 NO = ("say", 0)
 WORDS = (
     "in", "with", "open", "round", "none", "self", "alone", "taken", "court", "named", "same", "nobody", "say", "ask",
-    "land", "ones", "one", "no", "split", "told", "agree", "part",
+    "land", "ones", "one", "no", "split", "told", "agree", "part", "clash", "turns",
     "later", "strange", "settled", "no party", "binds",
 )
 
@@ -112,6 +112,19 @@ def changes(thing):
             changed = put_at(thing, path, new)
             if repr(changed) != shown:
                 yield changed
+
+
+def thrown_changes(dice, thing, many):
+    """So many of the changes, each part being put otherwise about as often."""
+    shown = repr(thing)
+    ways = paths(thing)
+    found = []
+    while len(found) < many:
+        path = dice.choice(ways)
+        changed = put_at(thing, path, dice.choice(other_parts(part_at(thing, path))))
+        if repr(changed) != shown:
+            found.append(changed)
+    return found
 
 
 def other_parts(part):

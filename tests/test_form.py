@@ -74,6 +74,16 @@ INTERFACE = {
         "agreeing": ["lands", "book", "question", "courts", "opens"],
         "agreeing_holds": ["lands", "book", "question", "courts", "opens", "thing"],
     },
+    "settling.py": {
+        "settles": ["lands", "book", "question", "court", "opens", "filling", "numbers"],
+        "settling": ["lands", "book", "question", "court", "opens", "filling"],
+    },
+    "settlepaper.py": {"settling_holds": ["lands", "book", "question", "court", "opens", "filling", "thing"]},
+    "turns.py": {
+        "turned": ["lands", "turns"],
+        "all_alike": ["lands", "table"],
+    },
+    "clashes.py": {"clashes_hold": ["lands", "table", "number", "thing"]},
 }
 
 BARRED_WORDS = re.compile(

@@ -158,3 +158,93 @@ def thrown_opens(dice, many, most=64):
 def thrown_courts(dice, many):
     """Some of the lands, in any order."""
     return tuple(dice.sample(range(many), dice.randrange(1, many + 1)))
+
+
+def thrown_hangings(many, seed, most=64):
+    """Calls of settling whose answers hang on several opens, of so many fillings at the most."""
+    dice = random.Random(seed)
+    return [thrown_hanging(dice, most) for _ in range(many)]
+
+
+def thrown_hanging(dice, most):
+    many = dice.randrange(1, 4)
+    lands = tuple(hanging_land(dice) for _ in range(many))
+    opens = {}
+    for who, role in dice.sample([(1, 0), (1, 1), (1, 2), (1, 3), (2, 0), (2, 3)], dice.choice((1, 4, 5, 5))):
+        options = [dice.choice((("no",), ("in", dice.randrange(many)))), ("with", who + 1), ("with", 9), ("with", 0)]
+        options = tuple(sorted(options[:dice.choice((1, 2, 2, 2, 2, 3, 4))]))
+        if len(options) <= most:
+            opens[(who, role)] = (options,)
+            most //= len(options)
+    filling = tuple(dice.choice(options) for _, (options,) in sorted(opens.items()))
+    book = thrown_book(dice, many)[:50]
+    return lands, book, (dice.randrange(1, 4), 1, LAST_WORLD_DAY), dice.randrange(many), rows(opens), filling
+
+
+def hanging_land(dice):
+    """A land whose customs ask about others, each way down by unlike roles."""
+    rules = {(kind, 0): (dice.randrange(3), dice.randrange(3)) for kind in range(4) if dice.randrange(4) == 0}
+    customs = {(0, 0): (("say", dice.choice((0, 1, 1, 1, 1))),)}
+    for kind in (1, 2, 3):
+        customs[(kind, 0)] = (hanging_saying(dice, kind, dice.sample(range(4), 3)),)
+    return (rows(rules), rows(customs), (), (), ())
+
+
+def hanging_saying(dice, kind, roles):
+    if not roles:
+        return ("say", dice.choice((0, 1, 1, 3)))
+    yes, no = (hanging_saying(dice, kind, roles[1:]) for _ in range(2))
+    return ("ask", dice.choice((0, kind - 1)), roles[0], dice.randrange(2), yes, no)
+
+
+def thrown_tables(many, seed, most=3, cases=6):
+    """Lands with at most so many rules in all, and tables of at most so many cases."""
+    dice = random.Random(seed)
+    return [thrown_table(dice, most, cases) for _ in range(many)]
+
+
+def thrown_table(dice, most, cases):
+    if dice.randrange(3) == 0:
+        return clear_table(dice, most, cases)
+    many = dice.choice((1, 2, 2, 2, 3, 3, 3, 4, 5))
+    rules = [{} for _ in range(many)]
+    for _ in range(dice.choice((most, most, dice.randrange(most + 1)))):
+        rules[dice.randrange(many)][(dice.choice((0, 0, 0, 1)), dice.choice((0, 0, 3)))] = (
+            dice.randrange(3), dice.randrange(3),
+        )
+    lands = tuple(table_land(dice, each) for each in rules)
+    table = tuple(thrown_case(dice, many) for _ in range(dice.choice((1, 1, 2, cases))))
+    return lands, table
+
+
+def table_land(dice, rules):
+    customs = {(0, 0): (("say", dice.randrange(1, 4)),)}
+    if dice.randrange(2):
+        customs[(1, 0)] = (hanging_saying(dice, 1, dice.sample(range(4), 2)),)
+    return (rows(rules), rows(customs), (), (), ())
+
+
+def thrown_case(dice, many):
+    """A book and a question, mostly of ones whose roles are in lands."""
+    facts = {}
+    for who in range(3):
+        for role in range(4):
+            at = ("with", (who + 1) % 4) if dice.randrange(6) == 0 else ("in", dice.randrange(many))
+            if dice.randrange(6):
+                facts[(who, role, dice.choice((0, 0, 2)))] = (at,)
+    return rows(facts), (dice.choice((0, 0, 0, 1)), dice.randrange(3), dice.choice((0, 2, LAST_WORLD_DAY)))
+
+
+def clear_table(dice, most, cases):
+    """Three lands of unlike customs, in which each role leads to another one: turns can make them alike."""
+    rules = [{} for _ in range(3)]
+    for number in dice.sample(range(3), min(most, dice.choice((2, 2, 3)))):
+        rules[number][(0, 0)] = (dice.randrange(3), dice.randrange(3))
+    lands = tuple((rows(each), ((0, 0, ("say", number)),), (), (), ()) for number, each in enumerate(rules))
+    place = dice.sample(range(3), 3)
+    table = ()
+    for who in range(dice.choice((1, 2, cases))):
+        # The ones' roles are in the same lands, so that one row of turns can do for all cases.
+        book = tuple((who, role, 0, ("in", place[role])) for role in range(3))
+        table += ((book, (0, who, dice.randrange(LAST_WORLD_DAY + 1))),)
+    return lands, table

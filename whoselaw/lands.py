@@ -1,6 +1,6 @@
 """Lands: what they are, and which of their rows is in force."""
 
-from whoselaw.shapes import is_none_or_number, is_number, is_tuple, rises
+from whoselaw.shapes import is_none_or_number, is_number, is_tuple, rises, same
 
 MOST_LANDS = 5
 MOST_ROWS = 12
@@ -206,3 +206,19 @@ def row_at(rows, key, day):
         if row[0] == key and row[1] <= day:
             found = row
     return found
+
+
+def rule_since(lands, land, kind, since):
+    """The land's rule with this kind and since, whatever these three are; None, where there is none."""
+    if not is_number(land, 0, len(lands) - 1):
+        return None
+    for rule in lands[land][RULES]:
+        if same(rule[:2], (kind, since)):
+            return rule
+    return None
+
+
+def with_rules(lands, land, rules):
+    """The lands with these rules in the place of this land's, all else as it was."""
+    changed = (rules,) + lands[land][CUSTOMS:]
+    return lands[:land] + (changed,) + lands[land + 1:]
