@@ -104,6 +104,15 @@ def beside(who, role, other, day=0):
     return (who, role, day, ("with", other))
 
 
+def long_book(who):
+    """Sixty facts: each role goes from this one to nineteen others, until each is in another land."""
+    rows = [
+        beside((who + one) % 100, role, (who + one + 1) % 100, 10 ** 9) for one in range(19) for role in range(3)
+    ]
+    rows += [at_once((who + 19) % 100, role, role + 1, 0) for role in range(3)]
+    return tuple(sorted(rows))
+
+
 def changes(thing):
     """The nested tuples with any one part put otherwise, each of them another thing than they are."""
     shown = repr(thing)

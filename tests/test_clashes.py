@@ -7,7 +7,7 @@ from plain_turns import (
     all_clash_trees, all_rules, branches_due, clash_tree, clashes_in, plain_clashes_hold, plain_turned, turning_rows,
 )
 from samples import (
-    ask, asking_most, at_once, beside, changes, is_plain, land, nest, part_at, paths, put_at, say,
+    ask, asking_most, at_once, changes, is_plain, land, long_book, nest, part_at, paths, put_at, say,
     things_of_every_kind, thrown_changes,
 )
 from whoselaw.clashes import clashes_hold
@@ -213,7 +213,8 @@ class OtherTrees(Checked):
         for key, both in all_rules(LANDS).items():
             row = dict(tree[4] + ((key + both, below),))
             self.bad(put_at(tree, (4,), tuple(sorted(row.items()))), 1)
-        for turn in ((2, 0, 0, 0, 0), (0, 0, 1, 0, 0), (0, 1, 0, 0, 0), (0, 0, 0, 3, 0), (0, 0, 0, 0, 3), (3, 0, 0, 0, 0)):
+        for turn in ((2, 0, 0, 0, 0), (0, 0, 1, 0, 0), (0, 1, 0, 0, 0), (0, 0, 0, 3, 0), (0, 0, 0, 0, 3),
+                     (3, 0, 0, 0, 0)):
             row = dict(tree[4] + ((turn, below),))
             self.bad(put_at(tree, (4,), tuple(sorted(row.items()))), 1)
             for place in range(16):
@@ -316,10 +317,11 @@ class OtherThings(Checked):
             for number in (0, 1, 2):
                 for made in (thing, (thing,), ("clash", thing, 0, 1, ()), ("clash", 0, thing, 1, ()),
                              ("clash", 0, 0, thing, ()) if thing not in (1, 2) or thing is True else thing,
-                             ("clash", 0, 0, 1, thing) if thing != () else thing, (thing,) * 5, ("clash",) + (thing,) * 4,
-                             ("clash", 0, 0, 1, (thing,)), tree + (thing,), (thing,) + tree[1:],
+                             ("clash", 0, 0, 1, thing) if thing != () else thing, (thing,) * 5,
+                             ("clash",) + (thing,) * 4, ("clash", 0, 0, 1, (thing,)), tree + (thing,),
+                             (thing,) + tree[1:],
                              ("clash", 0, 0, 1, (thing,) * 16), ("clash", 0, 0, 1, ((thing, thing),) * 16)):
-                    if repr(made) not in (repr(tree_of(0)),):
+                    if made != tree_of(0):
                         self.bad(made, number)
 
     def test_in_each_place_of_a_tree(self):
@@ -371,16 +373,9 @@ class Bounds(Checked):
             lands.append(land(rules, customs))
         return tuple(lands)
 
-    def full_book(self, who):
-        """Sixty facts: each role goes from one to another, until each is in another land."""
-        rows = [beside((who + one) % 100, role, (who + one + 1) % 100, LAST_DAY)
-                for one in range(19) for role in range(3)]
-        rows += [at_once((who + 19) % 100, role, role + 1, 0) for role in range(3)]
-        return tuple(sorted(rows))
-
     def test_twelve_rules_of_five_lands_in_six_cases(self):
         lands = self.full_lands()
-        table = tuple((self.full_book(who), (3, who, LAST_DAY)) for who in (0, 99, 17, 40, 55, 81))
+        table = tuple((long_book(who), (3, who, LAST_DAY)) for who in (0, 99, 17, 40, 55, 81))
         self.assertTrue(are_lands(lands) and all(is_book(lands, book) for book, _ in table))
         self.assertEqual({len(book) for book, _ in table}, {60})
         self.assertEqual(len(all_rules(lands)), 60)
@@ -404,7 +399,7 @@ class Bounds(Checked):
         sayings = [ask(2, ask(2, ask(2, say(answer), say(0)), say(0)), say(0)) for answer in range(1, 6)]
         lands = tuple(land([(kind, 0, kind, COURT)] if kind < 3 else [], asking_most()[:3] + [(3, 0, saying)])
                       for kind, saying in enumerate(sayings))
-        table = tuple((self.full_book(who), (3, who, LAST_DAY)) for who in (0, 99, 17, 40, 55, 81))
+        table = tuple((long_book(who), (3, who, LAST_DAY)) for who in (0, 99, 17, 40, 55, 81))
         self.assertTrue(are_lands(lands) and all(is_book(lands, book) for book, _ in table))
         for pick in (first, last):
             tree = clash_tree(lands, table, 2, pick)

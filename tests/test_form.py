@@ -84,6 +84,31 @@ INTERFACE = {
         "all_alike": ["lands", "table"],
     },
     "clashes.py": {"clashes_hold": ["lands", "table", "number", "thing"]},
+    "fewest.py": {
+        "fewest_turns": ["lands", "table", "number"],
+        "fewest_holds": ["lands", "table", "number", "thing"],
+    },
+    "realms.py": {"Realm": None, "Folk": None},
+    "dockets.py": {"Docket": None},
+    "texts.py": {
+        "book_text": ["book"],
+        "read_book": ["lands", "thing"],
+        "rules_text": ["lands"],
+    },
+    "desk.py": {"Desk": None},
+}
+
+# The methods that stand in the body of each class itself, with their arguments behind the object.
+METHODS = {
+    ("realms.py", "Realm"): {
+        "__init__": ["lands"], "lands": [], "put_rule": ["land", "rule"], "drop_rule": ["land", "kind", "since"],
+    },
+    ("realms.py", "Folk"): {"__init__": ["realm"], "put": ["fact"], "drop": ["who", "role", "day"], "book": []},
+    ("dockets.py", "Docket"): {
+        "__init__": ["realm", "folk"], "ask": ["name", "court", "question"], "again": ["name"], "still": ["name"],
+        "tree": ["name"], "drop": ["name"], "names": [], "turned_since": [],
+    },
+    ("desk.py", "Desk"): {"__init__": ["lands"], "say": ["row"]},
 }
 
 BARRED_WORDS = re.compile(
@@ -100,8 +125,10 @@ ALLOWED_BUILTINS = set(
 ALLOWED_METHODS = set(
     "add discard append clear copy count endswith extend find get index insert isalnum isalpha isdigit islower "
     "isspace isupper items join keys ljust lower lstrip partition pop remove replace reverse rfind rjust rpartition "
-    "rsplit rstrip setdefault split splitlines startswith strip update upper values zfill bit_length".split()
+    "rsplit rstrip setdefault split splitlines startswith strip update upper values zfill bit_length isascii".split()
 )
+# What no class may call a method or an attribute: names that builtin values have, but for those that L26 lets by.
+BUILTIN_NAMES = {name for kind in (str, int, list, dict, set, bytes, tuple) for name in dir(kind)}
 BARRED_NAMES = set(
     "register mro elements open input law version_info with_traceback add_note attrgetter breakpoint builtins compile "
     "copyright credits delattr dir eval exec exit gc getattr globals hasattr help id importlib license locals "
@@ -125,6 +152,17 @@ class Interface(unittest.TestCase):
                 else:
                     told = [argument.arg for argument in functions[wanted].args.args]
                     self.assertEqual(told, arguments, wanted)
+
+
+    def test_each_method_is_defined_in_its_class(self):
+        for (name, wanted), listed in METHODS.items():
+            found = [node for node in ast.parse((PACKAGE / name).read_text()).body
+                     if isinstance(node, ast.ClassDef) and node.name == wanted]
+            self.assertEqual(len(found), 1)
+            methods = {node.name: node for node in found[0].body if isinstance(node, ast.FunctionDef)}
+            for method, arguments in listed.items():
+                told = [argument.arg for argument in methods[method].args.args]
+                self.assertEqual(told, ["self"] + arguments, (wanted, method))
 
 
 class Form(unittest.TestCase):
@@ -195,25 +233,78 @@ class Form(unittest.TestCase):
             tree = ast.parse(path.read_text())
             imports = {alias.name for node in tree.body if isinstance(node, ast.ImportFrom) for alias in node.names}
             for name in stored_names(tree):
+                if name == "__init__":
+                    continue
                 self.assertRegex(name, r"\A[A-Za-z][A-Za-z0-9_]*\Z", path)
                 self.assertNotIn(name, dir(builtins), path)
                 self.assertNotIn(name, BARRED_NAMES, path)
                 self.assertNotIn(name, imports, path)
 
+    def test_classes(self):
+        """Their own names are no builtin value's, and none is a method here and an attribute there."""
+        methods, attributes = own_names()
+        self.assertEqual(methods & attributes, set())
+        for name in methods | attributes:
+            self.assertNotIn(name, BUILTIN_NAMES)
+            self.assertRegex(name, r"\A[a-z][a-z0-9_]*\Z")
+        for path in files():
+            for node in ast.walk(ast.parse(path.read_text())):
+                if isinstance(node, ast.ClassDef):
+                    self.assertEqual(node.decorator_list, [])
+                    names = [each.name for each in node.body if isinstance(each, ast.FunctionDef)]
+                    self.assertEqual(len(names), len(set(names)))
+
+    def test_no_state_at_module_level(self):
+        """What is assigned there is a plain value, and in lists and dicts there are no others."""
+        for path in files():
+            for node in ast.parse(path.read_text()).body:
+                if isinstance(node, ast.Assign):
+                    for inner in list(ast.walk(node.value))[1:]:
+                        self.assertNotIsInstance(inner, (ast.List, ast.Dict, ast.Call, ast.ListComp), path)
+
+    def test_raised_and_caught_errors(self):
+        listed = set(INTERFACE["errors.py"])
+        for path in files():
+            for node in ast.walk(ast.parse(path.read_text())):
+                if isinstance(node, ast.Raise):
+                    self.assertIn(node.exc.func.id, listed, path)
+                    self.assertEqual(node.exc.args + node.exc.keywords, [], path)
+                if isinstance(node, ast.ExceptHandler):
+                    self.assertIn(node.type.id, listed, path)
+
+    def test_texts(self):
+        for path in files():
+            for node in ast.walk(ast.parse(path.read_text())):
+                if isinstance(node, ast.Constant) and isinstance(node.value, str):
+                    self.assertNotIn("%", node.value, path)
+
     def test_builtins_and_methods(self):
+        methods, attributes = own_names()
         for path in files():
             tree = ast.parse(path.read_text())
             for node in ast.walk(tree):
                 if isinstance(node, ast.Name) and node.id in dir(builtins):
                     self.assertIn(node.id, ALLOWED_BUILTINS, path)
                 if isinstance(node, ast.Attribute):
-                    self.assertIn(node.attr, ALLOWED_METHODS, path)
+                    self.assertIn(node.attr, ALLOWED_METHODS | methods | attributes, path)
 
     def test_is_stands_with_none_true_and_false_only(self):
         for path in files():
             for node in ast.walk(ast.parse(path.read_text())):
                 if isinstance(node, ast.Compare) and isinstance(node.ops[0], (ast.Is, ast.IsNot)):
                     self.assertIn(ast.unparse(node.comparators[0]), ("None", "True", "False"), path)
+
+
+def own_names():
+    """The names of the package's own methods, and of the attributes that its classes assign."""
+    methods, attributes = set(), set()
+    for path in files():
+        for node in ast.walk(ast.parse(path.read_text())):
+            if isinstance(node, ast.ClassDef):
+                methods |= {each.name for each in node.body if isinstance(each, ast.FunctionDef)}
+            if isinstance(node, ast.Attribute) and isinstance(node.ctx, ast.Store):
+                attributes.add(node.attr)
+    return methods - {"__init__"}, attributes
 
 
 def imported_files(tree):

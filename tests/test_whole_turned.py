@@ -108,7 +108,9 @@ class Clashing(unittest.TestCase):
         """Of lands that are alike by a turn: trees of others, and right ones but for a branch, are not let by."""
         dice = random.Random(285)
         worlds = thrown_tables(100, 287, 3)
-        trees = [(number, clash_tree(lands, table, number, dice.choice)) for lands, table in worlds for number in (0, 1)]
+        trees = [
+            (number, clash_tree(lands, table, number, dice.choice)) for lands, table in worlds for number in (0, 1)
+        ]
         many = 0
         for lands, table in worlds:
             least = fewest(lands, table)
@@ -135,7 +137,8 @@ class Clashing(unittest.TestCase):
 
 def fewest(lands, table):
     """How many turns at the least make them alike, one at the most; None, where more are wanted."""
-    return min((len(turns) for turns in rows_of_turns(lands, 1) if all_alike(turned(lands, turns), table)), default=None)
+    rows = [turns for turns in rows_of_turns(lands, 1) if all_alike(turned(lands, turns), table)]
+    return min(map(len, rows), default=None)
 
 
 if __name__ == "__main__":

@@ -2,6 +2,8 @@
 
 import random
 
+from whoselaw.errors import LawError
+
 LAST_WORLD_DAY = 4
 ONES = 5
 # How many ones the books of full worlds know of: the last three are held by others more often.
@@ -248,3 +250,24 @@ def clear_table(dice, most, cases):
         book = tuple((who, role, 0, ("in", place[role])) for role in range(3))
         table += ((book, (0, who, dice.randrange(LAST_WORLD_DAY + 1))),)
     return lands, table
+
+
+def thrown_deed(dice, realm, folk):
+    """Some deed to the one or the other, if it isn't refused."""
+    lands = realm.lands()
+    number = dice.randrange(len(lands))
+    try:
+        if dice.randrange(2):
+            rule = (dice.randrange(4), dice.randrange(4), dice.randrange(3), dice.randrange(3))
+            if dice.randrange(3):
+                realm.put_rule(number, rule)
+            else:
+                realm.drop_rule(number, *rule[:2])
+        elif dice.randrange(2):
+            who = dice.randrange(5)
+            at = dice.choice((("in", number), ("in", number), ("with", (who + 1) % 5)))
+            folk.put((who, dice.randrange(4), dice.randrange(5), at))
+        else:
+            folk.drop(*dice.choice(folk.book() or ((0, 0, 0, 0),))[:3])
+    except LawError:
+        pass

@@ -55,11 +55,11 @@ def turns_due(lands, question, sides, passed):
     for court, tree in sides:
         rules.extend(named(lands, question, court, tree)[0])
     done = [turn[:3] for turn in passed]
-    return sorted([turn for rule in sorted(set(rules)) if rule not in done for turn in turns_of(lands, rule)])
+    return [turn for rule in sorted(set(rules)) if rule not in done for turn in turns_of(lands, rule)]
 
 
 def turns_of(lands, key):
-    """The eight turns of the rule that is told as (land, kind, since)."""
+    """The eight turns of the rule that is told as (land, kind, since), rising."""
     land, kind, since = key
     rule = rule_since(lands, land, kind, since)
     return [
